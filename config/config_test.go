@@ -266,15 +266,17 @@ func TestP2CopySharesNothing(t *testing.T) {
 	}
 }
 
-// A copy that is nil points into no memory of the caller's.
+// A list without elements may have spare room, which is the caller's.
 func TestP2CopyOfListsWithoutElements(t *testing.T) {
 	room := make([]api.Rule, 3)
-	kept := Copy(api.Config{Peers: []api.Peer{{Import: room[:0], Export: room[:0:0]}}})
-	if p := kept.Peers[0]; p.Import != nil || p.Export != nil {
-		t.Errorf("P2: the copies of lists without elements are %v and %v, want nil", p.Import, p.Export)
+	c := api.Config{Peers: append(make([]api.Peer, 0, 3), api.Peer{Import: room[:0], Export: room[:0:2]})}
+	kept := Copy(c)
+	if p := kept.Peers[0]; cap(p.Import) != 0 || cap(p.Export) != 0 {
+		t.Errorf("P2: the copies of lists without elements have room for %d and %d rules", cap(p.Import), cap(p.Export))
 	}
-	if kept = Copy(api.Config{Peers: make([]api.Peer, 0, 3)}); kept.Peers != nil {
-		t.Errorf("P2: the copy of no peers is %v, want nil", kept.Peers)
+	c.Peers = c.Peers[:0]
+	if kept = Copy(c); cap(kept.Peers) != 0 {
+		t.Errorf("P2: the copy of no peers has room for %d", cap(kept.Peers))
 	}
 }
 

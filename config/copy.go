@@ -1,20 +1,18 @@
 package config
 
-import "waypost/api"
+import (
+	"slices"
+
+	"waypost/api"
+)
 
 // Copy makes a configuration that shares no list with c.
 func Copy(c api.Config) api.Config {
-	c.Peers = copyList(c.Peers)
+	c.Peers = slices.Clone(c.Peers)
 	for i := range c.Peers {
 		p := &c.Peers[i]
-		p.Import = copyList(p.Import)
-		p.Export = copyList(p.Export)
+		p.Import = slices.Clone(p.Import)
+		p.Export = slices.Clone(p.Export)
 	}
 	return c
-}
-
-// slices.Clone would do but for a list without elements: its copy still points
-// into the memory of the one handed in.
-func copyList[T any](list []T) []T {
-	return append([]T(nil), list...)
 }
