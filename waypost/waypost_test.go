@@ -121,17 +121,6 @@ func TestP10StateOfANewSpeaker(t *testing.T) {
 	}
 }
 
-// A state other than Idle shows that State looks at the peer that it was asked of.
-func TestP10StateIsThePeers(t *testing.T) {
-	s := mustNew(t, ordinary())
-	s.states = []int{api.Established, api.OpenSent}
-	for peer, want := range map[int]int{-1: 0, 0: api.Established, 1: api.OpenSent, 2: 0, math.MinInt: 0, math.MaxInt: 0} {
-		if got := s.State(peer); got != want {
-			t.Errorf("P10: State(%d): %d, want %d", peer, got, want)
-		}
-	}
-}
-
 func TestP1NewAtOddNumbers(t *testing.T) {
 	for _, n := range oddNumbers() {
 		for i, set := range []func(c *api.Config){
@@ -223,27 +212,24 @@ func TestP2TheConfigurationIsNotKept(t *testing.T) {
 	c := ordinary()
 	s := mustNew(t, c)
 	scribble(c)
-	if want := ordinary(); !reflect.DeepEqual(s.config, want) {
-		t.Errorf("P2: the speaker's configuration was changed from without: %+v, want %+v", s.config, want)
+	if want := mustNew(t, ordinary()); !reflect.DeepEqual(s, want) {
+		t.Errorf("P2: the speaker was changed from without: %+v, want %+v", s, want)
 	}
-	for _, peer := range []int{0, 1} {
-		if got := s.State(peer); got != api.Idle {
-			t.Errorf("P2: State(%d) behind the writing: %d, want %d", peer, got, api.Idle)
-		}
-	}
+	turnSends(t, "behind the writing", s, 0, []api.Input{connect(0), connect(1)}, sent(0, open(65000, 90, 7)), sent(1, open(65000, 0, 7)))
+	turnSends(t, "behind the writing", s, 0, []api.Input{comes(0, open(65001, 0, 7)), comes(1, open(65000, 0, 7))}, sent(0, alive), sent(1, alive))
+	checkStates(t, "behind the writing", s, api.OpenConfirm, api.OpenConfirm)
 }
 
 func TestP2SpeakersShareNothing(t *testing.T) {
 	c := ordinary()
 	one, other := mustNew(t, c), mustNew(t, c)
-	scribble(one.config)
-	one.states[0] = api.Established
-	if want := ordinary(); !reflect.DeepEqual(other.config, want) {
-		t.Errorf("P2: the other speaker's configuration: %+v, want %+v", other.config, want)
-	}
-	if got := other.State(0); got != api.Idle {
-		t.Errorf("P2: State(0) of the other speaker: %d, want %d", got, api.Idle)
-	}
+	turnSends(t, "one", one, 1000, []api.Input{connect(0), comes(0, open(65001, 30, 7)+alive[:9])}, sent(0, open(65000, 90, 7)+alive))
+	checkStates(t, "the other", other, api.Idle, api.Idle)
+	turnSends(t, "the other", other, 5, []api.Input{comes(0, alive[9:])})
+	turnSends(t, "the other", other, 0, []api.Input{connect(0)}, sent(0, open(65000, 90, 7)))
+	turnSends(t, "the other", other, 90, nil, closed(0, notice(4, 0, "")))
+	turnSends(t, "one", one, 0, []api.Input{comes(0, alive[9:])})
+	checkStates(t, "one", one, api.Established, api.Idle)
 }
 
 // Several speakers of one configuration, each in a goroutine: what is answered hangs on no schedule.

@@ -1,0 +1,58 @@
+// Package session is the session with one peer: its state, its timers, and what it answers to what comes in.
+package session
+
+import (
+	"waypost/api"
+	"waypost/message"
+)
+
+// Session is the session with one peer.
+type Session struct {
+	as   int // the speaker's
+	id   uint32
+	peer api.Peer
+
+	state int
+	hold  int // the hold time of the connection
+	heard int // when the last message came in, or the connection came to stand
+	spoke int // when something was sent last
+	cut   message.Cutter
+}
+
+// New makes a session of the speaker of an AS, with a number, and a peer: Idle. The peer's lists are kept.
+func New(as int, id uint32, peer api.Peer) Session {
+	return Session{as: as, id: id, peer: peer}
+}
+
+// State tells the state.
+func (s *Session) State() int { return s.state }
+
+// idle forgets the connection.
+func (s *Session) idle() {
+	*s = New(s.as, s.id, s.peer)
+}
+
+// silent says whether the hold time has gone by without a message.
+func (s *Session) silent(now int) bool {
+	return s.state != api.Idle && s.hold != 0 && now-s.heard >= s.hold
+}
+
+// owes says whether it is time for a Keepalive.
+func (s *Session) owes(now int) bool {
+	greeted := s.state == api.OpenConfirm || s.state == api.Established
+	return greeted && s.hold != 0 && now-s.spoke >= s.hold/3
+}
+
+// belongs says whether a message of a type may come in now.
+func (s *Session) belongs(kind int) bool {
+	if kind == api.Notification {
+		return true
+	}
+	switch s.state {
+	case api.OpenSent:
+		return kind == api.Open
+	case api.OpenConfirm:
+		return kind == api.Keepalive
+	}
+	return kind == api.Update || kind == api.Keepalive
+}
