@@ -16,8 +16,22 @@ const (
 	subMore    = 4
 	subHold    = 6
 
+	codeUpdate = 3
+	subList    = 1
+	subUnknown = 2
+	subMissing = 3
+	subFlags   = 4
+	subSize    = 5
+	subOrigin  = 6
+	subNextHop = 8
+	subPrefix  = 10
+	subPath    = 11
+
 	codeHold  = 4
 	codeState = 5
+
+	codeLimit = 6
+	subLimit  = 1
 )
 
 // Notification tells a peer why its connection is closed.
@@ -34,6 +48,11 @@ func Refuse(code, subcode byte, data string) {
 // RefuseHere gives up a message that does not belong where it came.
 func RefuseHere() {
 	Refuse(codeState, 0, "")
+}
+
+// RefuseMore gives up a message by which the peer tells more prefixes than it may.
+func RefuseMore() {
+	Refuse(codeLimit, subLimit, "")
 }
 
 // Silence is the Notification of a peer that was silent for the hold time.

@@ -1,9 +1,10 @@
-// Package session is the session with one peer: its state, its timers, and what it answers to what comes in.
+// Package session is the session with one peer: its state, its timers, the routes that the peer told, and what is answered to what comes in.
 package session
 
 import (
 	"waypost/api"
 	"waypost/message"
+	"waypost/route"
 )
 
 // Session is the session with one peer.
@@ -12,16 +13,18 @@ type Session struct {
 	id   uint32
 	peer api.Peer
 
-	state int
-	hold  int // the hold time of the connection
-	heard int // when the last message came in, or the connection came to stand
-	spoke int // when something was sent last
-	cut   message.Cutter
+	state  int
+	number uint32 // the peer's, by its Open
+	hold   int    // the hold time of the connection
+	heard  int    // when the last message came in, or the connection came to stand
+	spoke  int    // when something was sent last
+	cut    message.Cutter
+	routes map[route.Prefix]route.Route // that the peer has told now
 }
 
 // New makes a session of the speaker of an AS, with a number, and a peer: Idle. The peer's lists are kept.
 func New(as int, id uint32, peer api.Peer) Session {
-	return Session{as: as, id: id, peer: peer}
+	return Session{as: as, id: id, peer: peer, routes: map[route.Prefix]route.Route{}}
 }
 
 // State tells the state.

@@ -3,12 +3,14 @@ package session
 import (
 	"waypost/api"
 	"waypost/message"
+	"waypost/route"
 )
 
-// Report is what a session has done at a turn: what was sent to the peer, and whether the speaker closed the connection.
+// Report is what a session has done at a turn: what was sent to the peer, whether the speaker closed the connection, and to which prefixes the peer's route may be another one now.
 type Report struct {
-	Sent   []byte
-	Closed bool
+	Sent    []byte
+	Closed  bool
+	Changed map[route.Prefix]struct{}
 }
 
 // turn is a session at work at one turn.
@@ -21,7 +23,7 @@ type turn struct {
 
 // Turn does the session's part of a turn at the time now.
 func (s *Session) Turn(now int, in []api.Input) Report {
-	t := &turn{Session: s, now: now}
+	t := &turn{Session: s, now: now, report: Report{Changed: map[route.Prefix]struct{}{}}}
 	t.work(in)
 	return t.report
 }
@@ -83,7 +85,7 @@ func (t *turn) hear(data string) {
 	}
 }
 
-// obey does what a message asks for. An Update is but a sign of life as yet: what it tells is not read.
+// obey does what a message asks for.
 func (t *turn) obey(m message.Message) {
 	if !t.belongs(m.Kind) {
 		message.RefuseHere()
@@ -92,6 +94,8 @@ func (t *turn) obey(m message.Message) {
 	switch m.Kind {
 	case api.Open:
 		t.greet(message.ReadOpen(m.Body, t.peer.AS))
+	case api.Update:
+		t.learn(message.ReadUpdate(m.Body, !t.external()))
 	case api.Keepalive:
 		t.state = api.Established
 	case api.Notification:
@@ -101,7 +105,7 @@ func (t *turn) obey(m message.Message) {
 
 // greet answers the peer's Open. The lesser hold time is 0 if one of both is.
 func (t *turn) greet(o message.Open) {
-	t.state, t.hold = api.OpenConfirm, min(t.peer.Hold, o.Hold)
+	t.state, t.number, t.hold = api.OpenConfirm, o.ID, min(t.peer.Hold, o.Hold)
 	t.send(message.Keepalive())
 }
 
@@ -121,6 +125,7 @@ func (t *turn) close() {
 }
 
 func (t *turn) end() {
+	t.forget()
 	t.idle()
 	t.over = true
 }

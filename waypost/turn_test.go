@@ -60,11 +60,11 @@ func checkStates(t *testing.T, what string, s *Speaker, want ...int) {
 	}
 }
 
-// eight is a configuration of eight peers of the ASes 1 to 8, with hold times from 3 to 10.
+// eight is a configuration of eight peers of the ASes 1 to 8, with hold times from 3 to 10, that may tell some prefixes.
 func eight() api.Config {
 	c := api.Config{AS: 65000, ID: 7}
 	for i := range 8 {
-		c.Peers = append(c.Peers, api.Peer{AS: i + 1, Hold: i + 3})
+		c.Peers = append(c.Peers, api.Peer{AS: i + 1, Hold: i + 3, Limit: 4, Import: []api.Rule{{Permit: true, Le: 32}}})
 	}
 	return c
 }
@@ -230,6 +230,8 @@ func pieces(as int) []string {
 		alive, alive, alive, update, open(as, 30, 7), open(as, 0, 7), open(as, 3, 7), open(as+1, 30, 7), open(as, 2, 7),
 		notice(6, 2, "why"), raw(5, ""), raw(api.Keepalive, "x"), mark, mark + "\xff\xff\x05", "\x00", "", alive[:10], alive[10:],
 		raw(api.Update, strings.Repeat("\xff", 4077)), raw(api.Open, strings.Repeat("\x04", 4077)),
+		news("", needed(0, seq(as)), ten), news("", needed(0, seq(as, 9)), ten+eleven), news(ten, needed(1, ""), eleven+"\x00"), news(ten, "", ""),
+		news(eleven+"\x00", "", ""), news("", needed(0, seq(9))+metric(3), ten), news("", needed(2, seq(9)), ten+"\x01\x80\x02\xc0"), news("", seq(9), ten), news("\x21", "", ""),
 	}
 }
 
@@ -293,7 +295,7 @@ func TestP5WhateverComesIn(t *testing.T) {
 	random := rand.New(rand.NewSource(2))
 	c := eight()
 	c.Peers = c.Peers[:3]
-	established := 0
+	established, chosen := 0, 0
 	for range 3000 {
 		s := mustNew(t, c)
 		standing := make([]string, len(c.Peers)) // what was sent of each connection that stands
@@ -318,10 +320,11 @@ func TestP5WhateverComesIn(t *testing.T) {
 					established++
 				}
 			}
+			chosen += len(s.Best())
 		}
 	}
-	if established < 1000 {
-		t.Errorf("P5: the test comes to Established %d times only", established)
+	if established < 1000 || chosen < 1000 {
+		t.Errorf("P5: the test comes to Established %d times only, and to %d best routes", established, chosen)
 	}
 }
 
@@ -389,6 +392,11 @@ func TestP9HowBytesAreCut(t *testing.T) {
 					t.Fatalf("P9: cut in way %d: Turn(%d, %#v) sends %#v, want %#v", i, turn.ticks, turn.in, got, want)
 				}
 			}
+			for i, other := range []*Speaker{joined, torn, bytewise} {
+				if got, want := other.Best(), whole.Best(); !slices.Equal(got, want) {
+					t.Fatalf("P9: cut in way %d: Best is %+v, want %+v", i, got, want)
+				}
+			}
 			for peer := range c.Peers {
 				checkStates(t, "joined", joined, whole.State(0), whole.State(1), whole.State(2))
 				if torn.State(peer) != whole.State(peer) || bytewise.State(peer) != whole.State(peer) {
@@ -406,11 +414,16 @@ func TestP2NoScheduleIsSeen(t *testing.T) {
 	for seed := range int64(20) {
 		turns = append(turns, run(rand.New(rand.NewSource(5+seed)), c.Peers)...)
 	}
-	answers := func() []api.Output {
+	answers := func() []any {
 		s := mustNew(t, c)
-		var all []api.Output
+		var all []any
 		for _, turn := range turns {
-			all = append(all, s.Turn(turn.ticks, turn.in)...)
+			for _, out := range s.Turn(turn.ticks, turn.in) {
+				all = append(all, out)
+			}
+			for _, r := range s.Best() {
+				all = append(all, r)
+			}
 		}
 		return all
 	}
@@ -445,7 +458,7 @@ func TestP2NoGoroutineStays(t *testing.T) {
 // A turn of many bytes ends.
 func TestP1ManyBytes(t *testing.T) {
 	s := mustNew(t, ordinary())
-	many := open(65001, 30, 7) + strings.Repeat(alive, 200000)
+	many := open(65001, 30, 7) + strings.Repeat(alive, 200000) + strings.Repeat(news("", needed(0, ""), strings.Repeat("\x00", 4000)), 500)
 	var got []api.Output
 	checkEnds(t, "Turn", func() {
 		got = s.Turn(0, []api.Input{connect(0), comes(0, many), comes(0, strings.Repeat("\xff", 1<<22))})

@@ -2,8 +2,12 @@
 package waypost
 
 import (
+	"maps"
+	"slices"
+
 	"waypost/api"
 	"waypost/config"
+	"waypost/route"
 	"waypost/session"
 )
 
@@ -11,6 +15,7 @@ import (
 type Speaker struct {
 	now      int               // the time, in ticks
 	sessions []session.Session // in the order of the peers
+	best     map[route.Prefix]route.Offer
 }
 
 // New makes a speaker (P3).
@@ -18,7 +23,7 @@ func New(c api.Config) (*Speaker, api.Fault) {
 	if fault := config.Check(c); fault != (api.Fault{}) {
 		return nil, fault
 	}
-	s := &Speaker{}
+	s := &Speaker{best: map[route.Prefix]route.Offer{}}
 	for _, peer := range config.Copy(c).Peers {
 		s.sessions = append(s.sessions, session.New(c.AS, c.ID, peer))
 	}
@@ -28,7 +33,9 @@ func New(c api.Config) (*Speaker, api.Fault) {
 // Turn is one turn (P4 to P9).
 func (s *Speaker) Turn(ticks int, in []api.Input) []api.Output {
 	s.now = later(s.now, ticks)
-	return outputs(s.work(s.split(in)))
+	reports := s.work(s.split(in))
+	s.choose(reports)
+	return outputs(reports)
 }
 
 // State tells the state of a session (P10).
@@ -40,7 +47,13 @@ func (s *Speaker) State(peer int) int {
 }
 
 // Best tells the best routes (P10).
-func (s *Speaker) Best() []api.Route { return nil }
+func (s *Speaker) Best() []api.Route {
+	var list []api.Route
+	for _, p := range slices.SortedFunc(maps.Keys(s.best), route.Prefix.Compare) {
+		list = append(list, asRoute(p, s.best[p]))
+	}
+	return list
+}
 
 func (s *Speaker) has(peer int) bool {
 	return peer >= 0 && peer < len(s.sessions)
