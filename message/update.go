@@ -42,7 +42,7 @@ func readPrefixes(bytes string) []route.Prefix {
 	var all []route.Prefix
 	for bytes != "" {
 		n := int(bytes[0])
-		end := 1 + (n+7)/8
+		end := prefixSize(n)
 		if n > route.MaxLength || end > len(bytes) {
 			Refuse(codeUpdate, subPrefix, "")
 		}
@@ -50,6 +50,11 @@ func readPrefixes(bytes string) []route.Prefix {
 		bytes = bytes[end:]
 	}
 	return all
+}
+
+// prefixSize is how many bytes a prefix of n bits has, as it is written.
+func prefixSize(n int) int {
+	return 1 + (n+7)/8
 }
 
 // address is the one that begins with bytes, four at most.

@@ -8,7 +8,10 @@ const (
 	sequence = 2
 )
 
-const segmentHead = 2 // bytes: the type, how many ASes
+const (
+	segmentHead = 2   // bytes: the type, how many ASes
+	mostASes    = 255 // of a segment
+)
 
 // Path is the way that a route goes: segments one behind the other, as they are sent.
 type Path string
@@ -89,6 +92,22 @@ func (p Path) Has(as int) bool {
 		}
 	}
 	return false
+}
+
+// Ahead is the path with an AS ahead of it: in the first segment, if that is a sequence with room, else in one of its own.
+func (p Path) Ahead(as int) Path {
+	own := segment{sequence, string([]byte{byte(as >> 8), byte(as)})}
+	first, rest, whole := p.cut()
+	if whole && first.kind == sequence && first.count() < mostASes {
+		own.list += first.list
+		p = rest
+	}
+	return own.path() + p
+}
+
+// path is the one of the segment alone.
+func (s segment) path() Path {
+	return Path([]byte{s.kind, byte(s.count())}) + Path(s.list)
 }
 
 func (s segment) count() int {

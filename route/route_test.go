@@ -159,6 +159,29 @@ func TestP4PathsThatMayNotBe(t *testing.T) {
 	}
 }
 
+func TestP6ASAheadOfAPath(t *testing.T) {
+	for _, c := range []struct{ name, path, want string }{
+		{"none", "", part(2, 258)},
+		{"a sequence", part(2, 5), part(2, 258, 5)},
+		{"the same AS", part(2, 258), part(2, 258, 258)},
+		{"two sequences", part(2, 5) + part(2, 6, 7), part(2, 258, 5) + part(2, 6, 7)},
+		{"a set", part(1, 5), part(2, 258) + part(1, 5)},
+		{"a set and a sequence", part(1, 5) + part(2, 6), part(2, 258) + part(1, 5) + part(2, 6)},
+		{"254", part(2, run(254, 9)...), part(2, append([]int{258}, run(254, 9)...)...)},
+		{"255", part(2, run(255, 9)...), part(2, 258) + part(2, run(255, 9)...)},
+		{"255 in a set", part(1, run(255, 9)...), part(2, 258) + part(1, run(255, 9)...)},
+	} {
+		if got := Path(c.path).Ahead(258); string(got) != c.want {
+			t.Errorf("P6: an AS ahead of %s: %x, want %x", c.name, got, c.want)
+		}
+	}
+	for _, as := range []int{1, 255, 256, 65535} {
+		if got := Path(part(2, 5)).Ahead(as); got.Neighbour() != as || got.Length() != 2 {
+			t.Errorf("P6: the AS %d ahead: %x", as, got)
+		}
+	}
+}
+
 // offers are of external peers with the numbers 9, 8, .., all alike but for what each f does.
 func offers(fs ...func(o *Offer)) []Offer {
 	var list []Offer

@@ -5,7 +5,7 @@ import (
 	"waypost/route"
 )
 
-func (s *Session) external() bool { return s.peer.AS != s.as }
+func (s *Session) external() bool { return s.peer.AS != s.config.AS }
 
 // learn takes in what an Update tells. One prefix may be withdrawn and announced by it: then it is announced.
 func (t *turn) learn(u message.Update) {
@@ -36,11 +36,11 @@ func (t *turn) changed(p route.Prefix) {
 	t.report.Changed[p] = struct{}{}
 }
 
-// Offer is the route to a prefix that the peer told, if there is one and it is allowed. The peer's place is left open.
+// Offer is the route to a prefix that the peer told, if there is one and it is allowed.
 func (s *Session) Offer(p route.Prefix) (o route.Offer, allowed bool) {
 	r, told := s.routes[p]
-	if !told || r.Path.Has(s.as) || !p.Passes(s.peer.Import) {
+	if !told || r.Path.Has(s.config.AS) || !p.Passes(s.peer.Import) {
 		return route.Offer{}, false
 	}
-	return route.Offer{Route: r, External: s.external(), ID: s.number}, true
+	return route.Offer{Route: r, Peer: s.place, External: s.external(), ID: s.number}, true
 }

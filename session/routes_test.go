@@ -28,7 +28,7 @@ var (
 // settled is a session with such a peer, Established; the peer's number is 7.
 func settled(t *testing.T, peer api.Peer) *Session {
 	t.Helper()
-	s := New(65000, 0x01020304, peer)
+	s := with(peer)
 	s.Turn(0, []api.Input{connect, comes(raw(api.Open, string([]byte{4, byte(peer.AS >> 8), byte(peer.AS), 0, 0, 0, 0, 0, 7, 0})) + alive)})
 	if s.State() != api.Established {
 		t.Fatalf("P4: state %d, want Established", s.State())
@@ -127,7 +127,7 @@ func TestP4GoneWithTheSession(t *testing.T) {
 }
 
 func TestP4SilenceEndsRoutes(t *testing.T) {
-	s := New(65000, 1, api.Peer{AS: 9, Hold: 9, Limit: 5, Import: through})
+	s := with(api.Peer{AS: 9, Hold: 9, Limit: 5, Import: through})
 	s.Turn(0, []api.Input{connect, comes(open(9, 9) + alive + news("", 1, "", ten))})
 	checkOffer(t, "ahead of it", &s, ofTen, 1)
 	r := s.Turn(9, nil)

@@ -1,4 +1,4 @@
-// Package session is the session with one peer: its state, its timers, the routes that the peer told, and what is answered to what comes in.
+// Package session is the session with one peer: its state, its timers, the routes that the peer told, what is answered to what comes in, and what the peer is told.
 package session
 
 import (
@@ -9,9 +9,9 @@ import (
 
 // Session is the session with one peer.
 type Session struct {
-	as   int // the speaker's
-	id   uint32
-	peer api.Peer
+	config api.Config // the speaker's
+	place  int        // the peer's, counted from 0
+	peer   api.Peer
 
 	state  int
 	number uint32 // the peer's, by its Open
@@ -20,11 +20,14 @@ type Session struct {
 	spoke  int    // when something was sent last
 	cut    message.Cutter
 	routes map[route.Prefix]route.Route // that the peer has told now
+
+	told   map[route.Prefix]announcement // the last of each; nil till the peer is told for the first time
+	recent []timed                       // announced less than Wait ticks ago, in the order of the times
 }
 
-// New makes a session of the speaker of an AS, with a number, and a peer: Idle. The peer's lists are kept.
-func New(as int, id uint32, peer api.Peer) Session {
-	return Session{as: as, id: id, peer: peer, routes: map[route.Prefix]route.Route{}}
+// New makes a session of a speaker with the peer at a place: Idle. The configuration's lists are kept.
+func New(c api.Config, place int) Session {
+	return Session{config: c, place: place, peer: c.Peers[place], routes: map[route.Prefix]route.Route{}}
 }
 
 // State tells the state.
@@ -32,7 +35,7 @@ func (s *Session) State() int { return s.state }
 
 // idle forgets the connection.
 func (s *Session) idle() {
-	*s = New(s.as, s.id, s.peer)
+	*s = New(s.config, s.place)
 }
 
 // silent says whether the hold time has gone by without a message.

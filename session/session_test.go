@@ -41,8 +41,13 @@ func mine(hold int) string {
 	return raw(api.Open, string([]byte{4, 0xfd, 0xe8, byte(hold >> 8), byte(hold), 1, 2, 3, 4, 0}))
 }
 
+// with is a session of the speaker with the AS 65000 and such a peer.
+func with(peer api.Peer) Session {
+	return New(api.Config{AS: 65000, ID: 0x01020304, NextHop: 0x0a0a0a0a, Peers: []api.Peer{peer}}, 0)
+}
+
 func withHold(hold int) *Session {
-	s := New(65000, 0x01020304, api.Peer{AS: 9, Hold: hold})
+	s := with(api.Peer{AS: 9, Hold: hold})
 	return &s
 }
 

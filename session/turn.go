@@ -69,7 +69,7 @@ func (t *turn) connect() {
 		return
 	}
 	t.state, t.hold, t.heard = api.OpenSent, t.peer.Hold, t.now
-	t.send(message.Open{AS: t.as, Hold: t.peer.Hold, ID: t.id}.Bytes())
+	t.send(message.Open{AS: t.config.AS, Hold: t.peer.Hold, ID: t.config.ID}.Bytes())
 }
 
 func (t *turn) hear(data string) {

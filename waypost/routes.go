@@ -6,20 +6,36 @@ import (
 	"waypost/session"
 )
 
-// choose chooses anew the best route to each prefix to which a peer's route may be another one.
-func (s *Speaker) choose(reports []session.Report) {
+// choose chooses anew the best route to each prefix to which a peer's route may be another one, and answers the prefixes to which another one is the best now. They are in no order.
+func (s *Speaker) choose(reports []session.Report) []route.Prefix {
+	var changed []route.Prefix
 	for _, r := range reports {
 		for p := range r.Changed {
-			s.chooseFor(p)
+			if s.chooseFor(p) {
+				changed = append(changed, p)
+			}
 		}
 	}
+	return changed
 }
 
-func (s *Speaker) chooseFor(p route.Prefix) {
-	if offers := s.offers(p); len(offers) > 0 {
-		s.best[p] = route.Best(offers)
-	} else {
+// chooseFor says whether another route to the prefix is the best now, or there is none any more.
+func (s *Speaker) chooseFor(p route.Prefix) bool {
+	before, was := s.best[p]
+	offers := s.offers(p)
+	if len(offers) == 0 {
 		delete(s.best, p)
+		return was
+	}
+	s.best[p] = route.Best(offers)
+	return !was || s.best[p] != before
+}
+
+// tell tells each peer what has changed for it, and adds it to what the sessions sent.
+func (s *Speaker) tell(changed []route.Prefix, reports []session.Report) {
+	for i := range s.sessions {
+		updates := s.sessions[i].Tell(s.now, s.best, changed)
+		reports[i].Sent = append(reports[i].Sent, updates...)
 	}
 }
 
@@ -28,7 +44,6 @@ func (s *Speaker) offers(p route.Prefix) []route.Offer {
 	var list []route.Offer
 	for i := range s.sessions {
 		if o, allowed := s.sessions[i].Offer(p); allowed {
-			o.Peer = i
 			list = append(list, o)
 		}
 	}

@@ -60,11 +60,12 @@ func checkStates(t *testing.T, what string, s *Speaker, want ...int) {
 	}
 }
 
-// eight is a configuration of eight peers of the ASes 1 to 8, with hold times from 3 to 10, that may tell some prefixes.
+// eight is a configuration of eight peers of the ASes 1 to 8, with hold times from 3 to 10, that may tell some prefixes and are told all.
 func eight() api.Config {
-	c := api.Config{AS: 65000, ID: 7}
+	c := api.Config{AS: 65000, ID: 7, NextHop: 0x01020304}
 	for i := range 8 {
-		c.Peers = append(c.Peers, api.Peer{AS: i + 1, Hold: i + 3, Limit: 4, Import: []api.Rule{{Permit: true, Le: 32}}})
+		through := []api.Rule{{Permit: true, Le: 32}}
+		c.Peers = append(c.Peers, api.Peer{AS: i + 1, Hold: i + 3, Limit: 4, Wait: i % 3, Import: through, Export: slices.Clone(through)})
 	}
 	return c
 }
@@ -265,10 +266,9 @@ func run(random *rand.Rand, peers []api.Peer) []turnAt {
 	return all
 }
 
-// checkConnection fails the test if the bytes of one connection are not as P5 says; gone is whether the connection is.
-func checkConnection(t *testing.T, data string, gone bool) {
+// kindsOf are the types of messages, each as a digit; it fails the test if they are not whole.
+func kindsOf(t *testing.T, data string) (kinds string) {
 	t.Helper()
-	kinds := ""
 	for data != "" {
 		if len(data) < 19 || !strings.HasPrefix(data, mark) {
 			t.Fatalf("P5: no message begins with %x", data)
@@ -280,14 +280,21 @@ func checkConnection(t *testing.T, data string, gone bool) {
 		kinds += string('0' + rune(data[18]))
 		data = data[n:]
 	}
+	return kinds
+}
+
+// checkConnection fails the test if the bytes of one connection are not as P5 says; gone is whether the connection is.
+func checkConnection(t *testing.T, data string, gone bool) {
+	t.Helper()
+	kinds := kindsOf(t, data)
 	if !strings.HasPrefix(kinds, "1") || strings.Count(kinds, "1") > 1 {
 		t.Fatalf("P5: the messages of a connection: %s, want one Open, first", kinds)
 	}
 	if i := strings.Index(kinds, "3"); i >= 0 && (i < len(kinds)-1 || !gone) {
 		t.Fatalf("P5: the messages of a connection: %s, gone %v, want nothing behind a Notification", kinds, gone)
 	}
-	if strings.Trim(kinds, "134") != "" {
-		t.Fatalf("P5: the messages of a connection: %s", kinds)
+	if i := strings.Index(kinds, "2"); i >= 0 && !strings.HasPrefix(kinds, "14") {
+		t.Fatalf("P5: the messages of a connection: %s, want no Update ahead of the Keepalive", kinds)
 	}
 }
 
@@ -295,7 +302,7 @@ func TestP5WhateverComesIn(t *testing.T) {
 	random := rand.New(rand.NewSource(2))
 	c := eight()
 	c.Peers = c.Peers[:3]
-	established, chosen := 0, 0
+	established, chosen, updates := 0, 0, 0
 	for range 3000 {
 		s := mustNew(t, c)
 		standing := make([]string, len(c.Peers)) // what was sent of each connection that stands
@@ -307,6 +314,12 @@ func TestP5WhateverComesIn(t *testing.T) {
 			for peer, out := range told {
 				standing[peer] += out.Data
 				gone := s.State(peer) == api.Idle
+				if strings.Contains(kindsOf(t, out.Data), "2") {
+					updates++
+					if s.State(peer) != api.Established {
+						t.Fatalf("P5: an Update in the state %d", s.State(peer))
+					}
+				}
 				if out.Closed && !gone {
 					t.Fatalf("P5: closed, and the state is %d", s.State(peer))
 				}
@@ -323,8 +336,8 @@ func TestP5WhateverComesIn(t *testing.T) {
 			chosen += len(s.Best())
 		}
 	}
-	if established < 1000 || chosen < 1000 {
-		t.Errorf("P5: the test comes to Established %d times only, and to %d best routes", established, chosen)
+	if established < 1000 || chosen < 1000 || updates < 500 {
+		t.Errorf("P5: the test comes to Established %d times only, to %d best routes, and %d times to Updates", established, chosen, updates)
 	}
 }
 

@@ -24,8 +24,9 @@ func New(c api.Config) (*Speaker, api.Fault) {
 		return nil, fault
 	}
 	s := &Speaker{best: map[route.Prefix]route.Offer{}}
-	for _, peer := range config.Copy(c).Peers {
-		s.sessions = append(s.sessions, session.New(c.AS, c.ID, peer))
+	own := config.Copy(c)
+	for place := range own.Peers {
+		s.sessions = append(s.sessions, session.New(own, place))
 	}
 	return s, api.Fault{}
 }
@@ -34,7 +35,7 @@ func New(c api.Config) (*Speaker, api.Fault) {
 func (s *Speaker) Turn(ticks int, in []api.Input) []api.Output {
 	s.now = later(s.now, ticks)
 	reports := s.work(s.split(in))
-	s.choose(reports)
+	s.tell(s.choose(reports), reports)
 	return outputs(reports)
 }
 
